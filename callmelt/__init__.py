@@ -1,0 +1,1 @@
+"""Callmelt: bodies put in the place of calls."""
