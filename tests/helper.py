@@ -87,6 +87,38 @@ def of_depth(deep, inmost=ONE):
     return tree
 
 
+# Each way in which a tree may stand in another one.
+AROUND = [
+    lambda tree: ("do", "+", tree, ONE),
+    lambda tree: ("do", "+", ONE, tree),
+    lambda tree: ("parts", (ONE, tree)),
+    lambda tree: ("pick", 2, tree),
+    lambda tree: ("many", tree),
+    lambda tree: ("if", tree, ONE, ONE),
+    lambda tree: ("if", ONE, tree, ONE),
+    lambda tree: ("if", ONE, ONE, tree),
+    lambda tree: ("let", "a", tree, ONE),
+    lambda tree: ("let", "a", ONE, tree),
+    lambda tree: ("loop", "a", tree, "b", ONE, ONE),
+    lambda tree: ("loop", "a", ONE, "b", tree, ONE),
+    lambda tree: ("loop", "a", ONE, "b", ONE, tree),
+    lambda tree: ("try", tree, "a", ONE),
+    lambda tree: ("try", ONE, "a", tree),
+    lambda tree: ("mark", 3, tree),
+    lambda tree: ("call", "f", (ONE, tree, ONE)),
+    lambda tree: ("melt", "f", (("a", ONE), ("b", tree)), ONE),
+    lambda tree: ("melt", "f", (("a", ONE),), tree),
+]
+
+
+def wrapped(around, many):
+    """A tree that stands so many times in another one, in the same way."""
+    tree = ("raise", "a")
+    for step in range(many):
+        tree = around(tree)
+    return tree
+
+
 def nested_tuples(deep):
     """Tuples within one another, which are no tree."""
     thing = ()

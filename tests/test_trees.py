@@ -4,8 +4,8 @@ import unittest
 
 from callmelt.trees import depth_of, is_plain, is_tree, nodes, size_of, thawed
 from tests.helper import (
-    NAME, ONE, OTHER_THINGS, SUM, TREES, YES, grown_trees, nested_lists, nested_tuples, of_depth, of_size,
-    shown,
+    AROUND, NAME, ONE, OTHER_THINGS, SUM, TREES, YES, grown_trees, nested_lists, nested_tuples, of_depth, of_size,
+    shown, wrapped,
 )
 
 NO_NUMBERS = [-1, 10 ** 9 + 1, 10 ** 5000, -10 ** 5000, True, False, None, "1", b"1", (), [1], (1,), ONE]
@@ -151,6 +151,12 @@ class TestIsTree(unittest.TestCase):
         self.accept(of_depth(63, ("parts", (ONE,))), of_depth(64, ("parts", ())))
         self.refuse(of_depth(64, ("parts", (ONE,))))
 
+    def test_depth_64_and_65_in_each_form(self):
+        for around in AROUND:
+            self.accept(wrapped(around, 63))
+            self.refuse(wrapped(around, 64))
+            self.assertEqual(depth_of(wrapped(around, 63)), 64)
+
     def test_depth_64_and_65_in_melts(self):
         self.accept(("melt", "f", (("a", of_depth(63)),), ONE), ("melt", "f", (), of_depth(63)))
         self.refuse(("melt", "f", (("a", of_depth(64)),), ONE), ("melt", "f", (), of_depth(64)))
@@ -234,20 +240,10 @@ class TestThawed(unittest.TestCase):
         self.assertEqual(thawed(OUTER), ("call", "f", (call, YES, ("many", call))))
 
     def test_melts_in_each_form(self):
-        call = thawed(INNER)
-        for form in [
-            lambda t: ("do", "-", t, ("many", t)),
-            lambda t: ("parts", (ONE, t, t)),
-            lambda t: ("pick", 3, t),
-            lambda t: ("many", t),
-            lambda t: ("if", t, t, t),
-            lambda t: ("let", "q", t, t),
-            lambda t: ("loop", "q", t, "r", t, t),
-            lambda t: ("try", t, "q", t),
-            lambda t: ("mark", 7, t),
-            lambda t: ("call", "h", (t, ONE, t)),
-        ]:
-            self.assertEqual(thawed(form(INNER)), form(call))
+        for around in AROUND:
+            if around(ONE)[0] != "melt":
+                self.assertEqual(thawed(around(INNER)), around(thawed(INNER)))
+                self.assertEqual(thawed(wrapped(around, 63)), wrapped(around, 63))
 
     def test_a_tree_thawed_bears_no_melts(self):
         for tree in grown_trees(200, "thawed"):

@@ -65,7 +65,8 @@ class TestWord(unittest.TestCase):
         self.check(["+", "`", "{", "a`", "a{", "a/", "a:", "a1/", "a1:", "\x00", "a\x00"], False)
 
     def test_letters_and_figures_of_other_alphabets(self):
-        self.check(["\u00e4", "a\u00df", "\u0430", "\u00aa", "a\u0661", "a\u00b2", "a\uff11", "\uff41", "\ud800"], False)
+        self.check(["\u00e4", "a\u00df", "\u0430", "\u00aa", "\uff41", "\ud800"], False)
+        self.check(["a\u0661", "a\u00b2", "a\uff11", "a1\u0661"], False)
 
     def test_things_that_are_no_text(self):
         self.check(OTHER_THINGS + [0, 1, ["a"], ("a",), {"a"}, {"a": "a"}, b"ab1"], False)
