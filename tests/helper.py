@@ -2,6 +2,8 @@
 
 import random
 
+from callmelt.trees import depth_of, size_of
+
 ONE = ("number", 1)
 YES = ("truth", True)
 NAME = ("name", "a")
@@ -168,3 +170,85 @@ def grown(source, deep):
         lambda: ("call", word(), row()),
         lambda: ("melt", word(), tuple(zip(["a", "b", "c", "x1"], row())), part()),
     ])()
+
+
+def grown_programs(many, seed):
+    """Lists of defs that fit one another, each fit for a program, the same ones each time."""
+    source = random.Random(seed)
+    return [grown_defs(source) for step in range(many)]
+
+
+def grown_defs(source):
+    """Two to four defs, of few words, so that words of one body stand in others, too."""
+    names = ["f", "g", "h", "a"][:source.randrange(2, 5)]
+    params = {name: tuple(source.sample(["a", "b", "c", "a1"], source.randrange(4))) for name in names}
+    # Most calls are of defs behind, so that not all runs go round until they are dry.
+    calls = {name: names[at + 1:] * 8 + names for at, name in enumerate(names)}
+    return [(name, params[name], grown_body(source, params[name], calls[name], params)) for name in names]
+
+
+def grown_body(source, bound, calls, params):
+    """A body of at most 40 nodes in which no name stands free but of the words bound."""
+    while True:
+        body = grown_fit(source, list(bound), calls, params, source.randrange(3, 7))
+        if size_of(body) <= 40 and depth_of(body) <= 8:
+            return body
+
+
+def grown_fit(source, bound, calls, params, deep):
+    """A tree of at most that depth whose names are bound and whose calls, of some defs, fit their params."""
+    word = lambda: source.choice(["a", "b", "c", "a1", "a2"])
+    part = lambda *more: grown_fit(source, bound + list(more), calls, params, deep - 1)
+    row = lambda many: tuple(part() for step in range(many))
+    name = lambda: ("name", source.choice(bound)) if bound else ("number", 2)
+    plain = [name, name, name, lambda: ("number", source.randrange(4)), lambda: ("number", 7), lambda: ("truth", True)]
+    if deep <= 1:
+        return source.choice(plain)()
+
+    def let():
+        w = word()
+        return ("let", w, part(), part(w))
+
+    def loop():
+        w, v = source.sample(["a", "b", "c", "a1"], 2)
+        return ("loop", w, part(), v, ("number", source.randrange(4)), part(w, v))
+
+    def call():
+        # Where there is no def behind, each call goes round.
+        if len(calls) == len(params) and source.random() < 0.8:
+            return name()
+        f = source.choice(calls)
+        return ("call", f, tuple(source.choice([name, part])() for step in params[f]))
+
+    return source.choice(plain[:1] + [call] * 4 + [let] * 3 + [loop] * 3 + [
+        lambda: ("do", source.choice("+-*+-*/<="), part(), part()),
+        lambda: ("do", source.choice("+-*"), part(), part()),
+        lambda: ("parts", row(source.randrange(4))),
+        lambda: ("pick", source.randrange(1, 4), ("parts", row(3))),
+        lambda: ("if", ("do", source.choice("<=="), part(), part()), part(), part()),
+        lambda: ("many", source.choice([("parts", row(2)), name()])),
+        lambda: source.choice([("raise", source.choice(["kind", "far", "c"])), name()]),
+        lambda: ("try", part(), source.choice(["kind", "lack", "c"]), part()),
+        lambda: ("mark", source.randrange(100), part()),
+    ])()
+
+
+def replaced(tree, number, remake):
+    """A tree that bears no melts, with what remake makes of the node of that number in its place."""
+    return replaced_from(tree, number, remake, 0)[0]
+
+
+def replaced_from(thing, number, remake, at):
+    """What replaced tells, of a tree whose number is at; and the number of the next one behind it."""
+    kept, behind = [], at + 1
+    for one in thing:
+        if isinstance(one, tuple) and one and isinstance(one[0], str):
+            one, behind = replaced_from(one, number, remake, behind)
+        elif isinstance(one, tuple):
+            row = []
+            for part in one:
+                part, behind = replaced_from(part, number, remake, behind)
+                row.append(part)
+            one = tuple(row)
+        kept.append(one)
+    return (remake(thing) if at == number else tuple(kept)), behind
