@@ -32,13 +32,15 @@ def gain_of(program, path):
 def paths_of(program, root, *, rings=RINGS, deep=DEEP):
     """All paths of a root within a depth, in whose defs none stands more than rings + 1 times, sorted."""
     found = []
+    # No path has more numbers, however deep is asked.
+    most = min(deep, MOST_NUMBERS)
     # The root alone is no path, but all of them go on from it.
     waiting = [((root,), (root,))]
     while waiting:
         path, defs = waiting.pop()
         further = further_paths(program, path, defs, rings)
         # Those further on have as many numbers as this one has things.
-        if len(path) <= deep:
+        if len(path) <= most:
             found.extend([longer for longer, more in further])
             waiting.extend(further)
         # Asked at each step: there may be far too many to seek them all.
@@ -69,6 +71,15 @@ def sites_on(program, path):
         found.append(at_number[0])
         home = at_number[0][1]
     return found
+
+
+def is_path_of(program, root, thing):
+    """Whether a thing is a path of this root."""
+    try:
+        sites_on(program, thing)
+    except NoPath:
+        return False
+    return thing[0] == root
 
 
 def is_shaped_path(thing):

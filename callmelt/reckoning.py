@@ -6,7 +6,7 @@ the calls here stand no further within one another than the fuel lets them.
 """
 
 from callmelt.deeds import chosen, counted, do, joined, picked, rounds
-from callmelt.trees import PLAIN, binding_row, is_plain, parts_of
+from callmelt.trees import PLAIN, binding_row, is_plain, written_parts
 
 # How many of its parts a node of these kinds always reckons; those of other kinds reckon all.
 PARTS_AHEAD = {"if": 1, "let": 1, "loop": 2, "try": 0}
@@ -75,12 +75,6 @@ def numbered(home, tree, number):
         many = PARTS_AHEAD.get(tree[0], len(parts))
         ahead, later = parts[:many], parts[many:]
     return Node(tree, (home, number), ahead, later), behind
-
-
-def written_parts(tree):
-    """The parts that were written in the same body as the tree: of a melt those of its row."""
-    # The row's plain trees, too: they have numbers as args of the call that the melt was.
-    return parts_of(tree)[:-1] if tree[0] == "melt" else parts_of(tree)
 
 
 def finish_do(course, node, scope, values):

@@ -1,6 +1,7 @@
 """Runs: what comes of a def's body for some values, what it takes, and what it enters."""
 
 from callmelt.errors import BadRun
+from callmelt.paths import MOST_NUMBERS
 from callmelt.reckoning import Course, Dry, Raised, Scope, node_of, reckon
 from callmelt.values import are_values
 
@@ -22,8 +23,9 @@ def entered(program, root, args, *, deep=5, fuel=FUEL):
     course = Course(program.defs(), fuel)
     # Told is only what was entered, whatever came of the run.
     outcome_of(course, root, args, program.body(root))
-    # A path is the root and its numbers.
-    return sorted([(path, many) for path, many in course.entries.items() if len(path) - 1 <= deep])
+    # A run goes on further than any path, which is the root and at most five numbers.
+    most = min(deep, MOST_NUMBERS)
+    return sorted([(path, many) for path, many in course.entries.items() if len(path) - 1 <= most])
 
 
 def check_args(program, name, args):

@@ -169,25 +169,49 @@ def counted_parts(tree):
     return parts_of(tree)
 
 
+def written_parts(tree):
+    """The parts that were written in the same body as the tree: of a melt those of its row."""
+    # The row's plain trees, too: they have numbers as args of the call that the melt was.
+    return parts_of(tree)[:-1] if tree[0] == "melt" else parts_of(tree)
+
+
 def counted_nodes(tree):
     """The nodes of a tree, each ahead of its parts."""
+    return walked(tree, counted_parts)
+
+
+def written_nodes(tree):
+    """What stands in a tree at each number, melts as they are."""
+    return walked(tree, written_parts)
+
+
+def walked(tree, parts_told):
+    """A tree, what parts_told tells of it, and so on, each ahead of its parts."""
     found = []
     waiting = [tree]
     while waiting:
         one = waiting.pop()
         found.append(one)
-        waiting.extend(counted_parts(one)[::-1])
+        waiting.extend(parts_told(one)[::-1])
     return found
 
 
 def rebuilt(tree, remake):
     """A tree that is no melt, with what remake makes of each part in that part's place."""
+    return with_parts(tree, [remake(part) for part in parts_of(tree)])
+
+
+def with_parts(tree, parts):
+    """A tree that is no melt, with as many other parts in the place of its own."""
     fields = []
+    at = 0
     for form, field in zip(FORMS[tree[0]], tree[1:]):
         if form == "tree":
-            fields.append(remake(field))
+            fields.append(parts[at])
+            at += 1
         elif form == "row":
-            fields.append(tuple([remake(part) for part in field]))
+            fields.append(tuple(parts[at:at + len(field)]))
+            at += len(field)
         else:
             fields.append(field)
     return (tree[0], *fields)

@@ -2,7 +2,7 @@
 
 import random
 
-from callmelt.trees import depth_of, size_of
+from callmelt.trees import FORMS, depth_of, nodes, size_of
 
 ONE = ("number", 1)
 YES = ("truth", True)
@@ -252,3 +252,105 @@ def replaced_from(thing, number, remake, at):
             one = tuple(row)
         kept.append(one)
     return (remake(thing) if at == number else tuple(kept)), behind
+
+
+def remade(tree, numbers, remake):
+    """A tree that may bear melts, with what remake makes of the node at these numbers, each but the last a melt's."""
+    number, rest = numbers[0], numbers[1:]
+    if number == 0:
+        return tree[:3] + (remade(tree[3], rest, remake),) if rest else remake(tree)
+    behind = 1
+
+    def part(one):
+        nonlocal behind
+        ahead, behind = behind, behind + len(nodes(one))
+        return remade(one, (number - ahead,) + rest, remake) if ahead <= number < behind else one
+
+    fields = []
+    for form, field in zip(FORMS[tree[0]], tree[1:]):
+        if form == "tree" and tree[0] != "melt":
+            field = part(field)
+        elif form == "row":
+            field = tuple([part(one) for one in field])
+        elif form == "bonds":
+            field = tuple([(word, part(one)) for word, one in field])
+        fields.append(field)
+    return (tree[0], *fields)
+
+
+def grown_choices(program, root, many, seed):
+    """Choices of a root, the same ones each time, none of them empty; none where the root has no calls."""
+    source = random.Random(seed)
+    found = [grown_choice(source, program, root, source.choice([1, 2, 3, 5, 8, 13, 40])) for step in range(many)]
+    return [choice for choice in found if choice]
+
+
+def grown_choice(source, program, root, most):
+    """A choice of at most so many paths, each of which goes on from the root or from one ahead."""
+    # What may be chosen next: a path, and the def that is called last on it.
+    open_paths = [((root, number), called) for number, called, plain in program.sites(root)]
+    choice = []
+    while open_paths and len(choice) < most:
+        path, called = open_paths.pop(source.randrange(len(open_paths)))
+        choice.append(path)
+        if len(path) <= 5:
+            open_paths.extend([(path + (number,), further) for number, further, plain in program.sites(called)])
+    return sorted(choice)
+
+
+def rows_of_args(program, name):
+    """Some lists of args for a def."""
+    many = len(program.params(name))
+    return [[2] * many, [0, 1, 2, 3][:many], [True, (1, 2), -1, ()][:many], [(3, 0, 7), 5, 1, False][:many]]
+
+
+# Programs whose defs share their words, and call one another in args, loops, tries and bodies.
+TANGLED = [
+    """(def m (a b) (try (loop c a d 3 (+ (g c b) (f d (f b c)))) far (mark 1 (g b a))))
+(def g (b a) (let c (mark 2 (+ a b)) (f c (f a b))))
+(def f (a b) (let c (* (mark 3 a) b) (if (< c 100) c (h c a))))
+(def h (c b) (loop a c c1 2 (- a b)))""",
+    """(def m (a) (let b (f a (f (f 1 a) a)) (parts (g b) (g a) (try (g (parts b a)) kind (f b (g 1))))))
+(def f (b a) (let a1 (+ a b) (g (+ a1 a))))
+(def g (a1) (let b a1 (let a (k b a1) (mark 4 (pick 1 a)))))
+(def k (a b) (parts (+ a b) a b))""",
+    """(def m (a b) (if (< a 1) (k) (+ (m (- a 1) b) (t b a))))
+(def t (b a) (try (m (- b 1) a) nought (mark 9 (/ a b))))
+(def k () (let a 7 (mark 5 a)))""",
+    """(def m () (loop a (k) b 2 (r a (r b (k)))))
+(def r (b a) (loop b1 a a1 b (s b1 (+ a1 b))))
+(def s (a b) (let b1 (* a b) (if (= b1 b) (raise c) (try (s b a) c (parts b1 b a)))))
+(def k () 3)""",
+]
+
+
+def grown_forests(many, seed):
+    """Forests of at most seven items, each with a room, the same ones each time."""
+    source = random.Random(seed)
+    return [(grown_items(source, source.randrange(8)), source.randrange(40)) for step in range(many)]
+
+
+def grown_items(source, many):
+    """So many items, most of which stand under another one."""
+    far = source.choice([5, 30, 10 ** 9])
+    lightest = source.choice([-40, -3, 0, 1])
+    return [
+        (source.choice([None] + list(range(at))), source.randrange(far + 1), source.randint(lightest, 20))
+        for at in range(many)
+    ]
+
+
+def all_takings(items):
+    """All takings of a forest."""
+    takings = [[]]
+    for at, (above, worth, weight) in enumerate(items):
+        takings += [taking + [at] for taking in takings if above is None or above in taking]
+    return takings
+
+
+def worth_of(items, taking):
+    return sum(items[at][1] for at in taking)
+
+
+def weight_of(items, taking):
+    return sum(items[at][2] for at in taking)

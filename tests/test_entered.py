@@ -92,6 +92,7 @@ class TestEntered(unittest.TestCase):
             self.assertEqual(len(found), 2 * deep - 1)
             self.assertEqual(max(len(path) for path, many in found), deep + 1)
         self.assertEqual(entered(with_main("(r 1)"), "main", []), found)
+        self.assertEqual(entered(with_main("(r 1)"), "main", [], deep=6), found)
 
     def test_no_path_is_longer_where_a_def_calls_itself_many_times(self):
         program = read_program("(def h () (h))")

@@ -118,6 +118,8 @@ class TestPathsOf(unittest.TestCase):
             self.assertEqual(paths_of(program, "a", deep=deep), [path[:many] for many in range(2, deep + 2)])
         self.assertEqual(paths_of(program, "a"), [path[:2], path[:3], path[:4]])
         self.assertEqual(paths_of(program, "f"), [("f", 0)])
+        # No path has six numbers.
+        self.assertEqual(paths_of(program, "a", deep=6), paths_of(program, "a", deep=5))
 
     def test_each_rings(self):
         program = read_program("(def f () (f))")
