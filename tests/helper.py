@@ -304,6 +304,13 @@ def rows_of_args(program, name):
     return [[2] * many, [0, 1, 2, 3][:many], [True, (1, 2), -1, ()][:many], [(3, 0, 7), 5, 1, False][:many]]
 
 
+# A program whose def m calls others once where its first arg is less, and else as often as its second tells.
+BRANCHING = """(def m (a b) (if (< a b) (+ (f a) (f (f b))) (loop c a d b (g c))))
+(def f (a) (* (k) a))
+(def g (a) (mark 1 (f a)))
+(def k () 9)
+(def r (a) (+ (k) (r a)))"""
+
 # Programs whose defs share their words, and call one another in args, loops, tries and bodies.
 TANGLED = [
     """(def m (a b) (try (loop c a d 3 (+ (g c b) (f d (f b c)))) far (mark 1 (g b a))))

@@ -256,6 +256,9 @@ class TestShows(unittest.TestCase):
             self.check(wanted, FLAT, 6, 1000, [("", p, q)])
             self.check(wanted, FLAT, 6, 1000, [("0", 0, 1), ("1", p, q)])
         self.check(True, [(None, 1, 40)], 0, 0, [("0", far, 1), ("1", far, 1)])
+        # A bound below nought is less than nought times whatever.
+        for q in [0, -1, True]:
+            self.check(False, [(None, 1, 40)], 0, 0, [("0", 0, 1), ("1", 1, q)])
 
     def test_of_whatever_is_handed_in(self):
         for thing in OTHER_THINGS + [nested_lists(200), nested_tuples(200), (("", 0, 1),), {("", 0, 1)}, 10 ** 5000]:

@@ -8,13 +8,11 @@ from callmelt.paths import gain_of
 from callmelt.programs import Program, read_program
 from callmelt.runs import entered, run
 from callmelt.savings import prices, saved
-from tests.helper import OTHER_THINGS, TANGLED, grown_choices, grown_programs, nested_lists, rows_of_args, shown
+from tests.helper import (
+    BRANCHING, OTHER_THINGS, TANGLED, grown_choices, grown_programs, nested_lists, rows_of_args, shown,
+)
 
-PROGRAM = read_program("""(def m (a b) (if (< a b) (+ (f a) (f (f b))) (loop c a d b (g c))))
-(def f (a) (* (k) a))
-(def g (a) (mark 1 (f a)))
-(def k () 9)
-(def r (a) (+ (k) (r a)))""")
+PROGRAM = read_program(BRANCHING)
 ROWS = [[1, 2], [2, 2], [3, 0], [-1, 5], [2, 1], [0, 0]]
 
 

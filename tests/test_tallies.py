@@ -9,14 +9,10 @@ from callmelt.programs import Program, read_program
 from callmelt.runs import entered
 from callmelt.tallies import tally
 from tests.helper import (
-    OTHER_THINGS, TANGLED, grown_programs, nested_lists, nested_tuples, rows_of_args, shown,
+    BRANCHING, OTHER_THINGS, TANGLED, grown_programs, nested_lists, nested_tuples, rows_of_args, shown,
 )
 
-PROGRAM = read_program("""(def m (a b) (if (< a b) (+ (f a) (f (f b))) (loop c a d b (g c))))
-(def f (a) (* (k) a))
-(def g (a) (mark 1 (f a)))
-(def k () 9)
-(def r (a) (+ (k) (r a)))""")
+PROGRAM = read_program(BRANCHING)
 ROWS = [[1, 2], [2, 2], [3, 0], [-1, 5], [2, 1], [0, 0]]
 # Things that are no list of two values.
 NO_ARGS = [
